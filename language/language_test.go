@@ -1,0 +1,154 @@
+// Package language contains the tests that the packages keep to the rules of the language (shared/LANGUAGE.md).
+package language
+
+import (
+	"go/ast"
+	"go/build/constraint"
+	"go/parser"
+	"go/token"
+	"os"
+	"path/filepath"
+	"slices"
+	"strconv"
+	"strings"
+	"testing"
+)
+
+// layers are the packages from layer 1 to layer 60, separated by spaces.
+const layers = "sha256 codec lexer syntax parser printer environ wellformed subtype scope check extract module evaluate " +
+	"identity derivation condition refine diff probe shrink enumerate behavior version verdict facade deprecate usage " +
+	"relative certificate constraint index graph mvs term proof solver explain lock override bundle advisory yank waves " +
+	"rollout merkle signature checkpoint objects disk journal store owners review publish collect mirror client scenario console"
+
+const library = "bytes cmp container/heap errors iter maps math math/bits slices sort strconv strings sync sync/atomic unicode unicode/utf8"
+
+// source is a Go file of a layer, without tests.
+type source struct {
+	layer string
+	name  string
+	tree  *ast.File
+}
+
+// sources returns all files of the layers that are no tests.
+func sources(t *testing.T) []source {
+	t.Helper()
+	var list []source
+	for _, layer := range strings.Fields(layers) {
+		folder := filepath.Join("..", layer)
+		entries, err := os.ReadDir(folder)
+		if err != nil {
+			t.Fatal(err)
+		}
+		for _, entry := range entries {
+			name := filepath.Join(folder, entry.Name())
+			if strings.HasSuffix(name, "_test.go") {
+				continue
+			}
+			if !strings.HasSuffix(name, ".go") {
+				t.Errorf("%s is beside the Go files", name)
+				continue
+			}
+			tree, err := parser.ParseFile(token.NewFileSet(), name, nil, parser.ParseComments)
+			if err != nil {
+				t.Fatal(err)
+			}
+			list = append(list, source{layer, name, tree})
+		}
+	}
+	return list
+}
+
+func imports(t *testing.T, s source) []string {
+	t.Helper()
+	var list []string
+	for _, spec := range s.tree.Imports {
+		path, err := strconv.Unquote(spec.Path.Value)
+		if err != nil {
+			t.Fatal(err)
+		}
+		list = append(list, path)
+	}
+	return list
+}
+
+// LANGUAGE.md, rule 1: the packages of the library that may be imported.
+func TestLibraryPackages(t *testing.T) {
+	permitted := strings.Fields(library)
+	for _, s := range sources(t) {
+		for _, path := range imports(t, s) {
+			if !strings.HasPrefix(path, "modcert/") && !slices.Contains(permitted, path) {
+				t.Errorf("%s imports %s", s.name, path)
+			}
+		}
+	}
+}
+
+// DOC.md, Overview: the layers are built on each other in their order, and layers 1 and 2 on api alone.
+func TestLayers(t *testing.T) {
+	order := strings.Fields(layers)
+	for _, s := range sources(t) {
+		own := slices.Index(order, s.layer)
+		for _, path := range imports(t, s) {
+			other := slices.Index(order, strings.TrimPrefix(path, "modcert/"))
+			if other >= 0 && (other >= own || own < 2) {
+				t.Errorf("%s imports %s", s.name, path)
+			}
+		}
+		if name := s.tree.Name.Name; name != s.layer {
+			t.Errorf("the package of %s is %s", s.name, name)
+		}
+	}
+}
+
+// LANGUAGE.md, rule 2: there are neither directives nor build tags.
+func TestDirectives(t *testing.T) {
+	for _, s := range sources(t) {
+		for _, group := range s.tree.Comments {
+			for _, comment := range group.List {
+				if strings.HasPrefix(comment.Text, "//go:") || constraint.IsPlusBuild(comment.Text) {
+					t.Errorf("%s has the directive %s", s.name, comment.Text)
+				}
+			}
+		}
+	}
+}
+
+// permittedVariable reports whether a variable of the package level is a table of literals or an error.
+func permittedVariable(spec *ast.ValueSpec) bool {
+	if len(spec.Values) != len(spec.Names) {
+		return false
+	}
+	for _, value := range spec.Values {
+		if call, ok := value.(*ast.CallExpr); ok {
+			function, ok := call.Fun.(*ast.SelectorExpr)
+			if !ok || function.Sel.Name != "New" || len(call.Args) != 1 {
+				return false
+			}
+			continue
+		}
+		for node := range ast.Preorder(value) {
+			switch node.(type) {
+			case *ast.MapType, *ast.FuncType, *ast.CallExpr:
+				return false
+			}
+		}
+	}
+	return true
+}
+
+// LANGUAGE.md, rules 3a and 3b: the package level contains neither maps, functions, computed values nor variables without a value.
+func TestPackageLevel(t *testing.T) {
+	for _, s := range sources(t) {
+		for _, declaration := range s.tree.Decls {
+			general, ok := declaration.(*ast.GenDecl)
+			if !ok || general.Tok != token.VAR {
+				continue
+			}
+			for _, spec := range general.Specs {
+				if variables := spec.(*ast.ValueSpec); !permittedVariable(variables) {
+					t.Errorf("%s has the variable %s", s.name, variables.Names[0].Name)
+				}
+			}
+		}
+	}
+}
