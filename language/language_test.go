@@ -4,6 +4,7 @@ package language
 import (
 	"go/ast"
 	"go/build/constraint"
+	"go/format"
 	"go/parser"
 	"go/token"
 	"os"
@@ -20,6 +21,8 @@ const layers = "sha256 codec lexer syntax parser printer environ wellformed subt
 	"relative certificate constraint index graph mvs term proof solver explain lock override bundle advisory yank waves " +
 	"rollout merkle signature checkpoint objects disk journal store owners review publish collect mirror client scenario console"
 
+const mostLines = 60 // of a function
+
 const library = "bytes cmp container/heap errors iter maps math math/bits slices sort strconv strings sync sync/atomic unicode unicode/utf8"
 
 // source is a Go file of a layer, without tests.
@@ -27,6 +30,7 @@ type source struct {
 	layer string
 	name  string
 	tree  *ast.File
+	files *token.FileSet
 }
 
 // sources returns all files of the layers that are no tests.
@@ -48,11 +52,12 @@ func sources(t *testing.T) []source {
 				t.Errorf("%s is beside the Go files", name)
 				continue
 			}
-			tree, err := parser.ParseFile(token.NewFileSet(), name, nil, parser.ParseComments)
+			files := token.NewFileSet()
+			tree, err := parser.ParseFile(files, name, nil, parser.ParseComments)
 			if err != nil {
 				t.Fatal(err)
 			}
-			list = append(list, source{layer, name, tree})
+			list = append(list, source{layer, name, tree, files})
 		}
 	}
 	return list
@@ -83,14 +88,20 @@ func TestLibraryPackages(t *testing.T) {
 	}
 }
 
-// DOC.md, Overview: the layers are built on each other in their order, and layers 1 and 2 on api alone.
+// calls returns the layers that each layer calls (DOC.md, Overview), separated by spaces, for those that are built.
+func calls() map[string]string {
+	return map[string]string{"sha256": "", "codec": "", "lexer": "", "syntax": "lexer"}
+}
+
+// DOC.md, Overview: the layers are built on each other in their order, and call no others than those that the table names.
 func TestLayers(t *testing.T) {
 	order := strings.Fields(layers)
 	for _, s := range sources(t) {
-		own := slices.Index(order, s.layer)
+		called, built := calls()[s.layer]
 		for _, path := range imports(t, s) {
-			other := slices.Index(order, strings.TrimPrefix(path, "modcert/"))
-			if other >= 0 && (other >= own || own < 2) {
+			layer := strings.TrimPrefix(path, "modcert/")
+			other := slices.Index(order, layer)
+			if other >= 0 && (other >= slices.Index(order, s.layer) || built && !slices.Contains(strings.Fields(called), layer)) {
 				t.Errorf("%s imports %s", s.name, path)
 			}
 		}
@@ -149,6 +160,34 @@ func TestPackageLevel(t *testing.T) {
 					t.Errorf("%s has the variable %s", s.name, variables.Names[0].Name)
 				}
 			}
+		}
+	}
+}
+
+// LANGUAGE.md, rule 9: functions have at most 60 lines.
+func TestLengths(t *testing.T) {
+	for _, s := range sources(t) {
+		for _, declaration := range s.tree.Decls {
+			function, ok := declaration.(*ast.FuncDecl)
+			if !ok {
+				continue
+			}
+			if lines := s.files.Position(function.End()).Line - s.files.Position(function.Pos()).Line + 1; lines > mostLines {
+				t.Errorf("%s of %s has %d lines", function.Name.Name, s.name, lines)
+			}
+		}
+	}
+}
+
+// LANGUAGE.md, rule 9: the layout is that of gofmt.
+func TestLayout(t *testing.T) {
+	for _, s := range sources(t) {
+		text, err := os.ReadFile(s.name)
+		if err != nil {
+			t.Fatal(err)
+		}
+		if formatted, err := format.Source(text); err != nil || string(formatted) != string(text) {
+			t.Errorf("%s has another layout than that of gofmt", s.name)
 		}
 	}
 }
