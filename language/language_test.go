@@ -21,11 +21,14 @@ const layers = "sha256 codec lexer syntax parser printer environ wellformed subt
 	"relative certificate constraint index graph mvs term proof solver explain lock override bundle advisory yank waves " +
 	"rollout merkle signature checkpoint objects disk journal store owners review publish collect mirror client scenario console"
 
+// others are the packages that are no layers.
+const others = "sample"
+
 const mostLines = 60 // of a function
 
 const library = "bytes cmp container/heap errors iter maps math math/bits slices sort strconv strings sync sync/atomic unicode unicode/utf8"
 
-// source is a Go file of a layer, without tests.
+// source is a Go file of a package, without tests.
 type source struct {
 	layer string
 	name  string
@@ -33,11 +36,11 @@ type source struct {
 	files *token.FileSet
 }
 
-// sources returns all files of the layers that are no tests.
+// sources returns all files of the layers and the other packages that are no tests.
 func sources(t *testing.T) []source {
 	t.Helper()
 	var list []source
-	for _, layer := range strings.Fields(layers) {
+	for _, layer := range strings.Fields(layers + " " + others) {
 		folder := filepath.Join("..", layer)
 		entries, err := os.ReadDir(folder)
 		if err != nil {
@@ -90,7 +93,7 @@ func TestLibraryPackages(t *testing.T) {
 
 // calls returns the layers that each layer calls (DOC.md, Overview), separated by spaces, for those that are built.
 func calls() map[string]string {
-	return map[string]string{"sha256": "", "codec": "", "lexer": "", "syntax": "lexer"}
+	return map[string]string{"sha256": "", "codec": "", "lexer": "", "syntax": "lexer", "parser": "lexer syntax", "printer": "lexer syntax"}
 }
 
 // DOC.md, Overview: the layers are built on each other in their order, and call no others than those that the table names.
