@@ -1,4 +1,4 @@
-// Package sample makes trees for the tests of the other packages: trees that have the form of a source (layer 6), in which everything occurs that such trees can have.
+// Package sample makes trees and environments for the tests of the other packages: trees that have the form of a source (layer 6), in which everything occurs that such trees can have, and environments that are well-formed (layer 8).
 package sample
 
 import (
