@@ -94,7 +94,8 @@ func TestLibraryPackages(t *testing.T) {
 // calls returns the layers that each layer calls (DOC.md, Overview), separated by spaces, for those that are built.
 func calls() map[string]string {
 	return map[string]string{"sha256": "", "codec": "", "lexer": "", "syntax": "lexer", "parser": "lexer syntax", "printer": "lexer syntax",
-		"environ": "syntax", "wellformed": "lexer syntax environ", "subtype": "environ wellformed", "scope": "lexer syntax"}
+		"environ": "syntax", "wellformed": "lexer syntax environ", "subtype": "environ wellformed", "scope": "lexer syntax",
+		"check": "environ wellformed subtype", "extract": "sha256 codec lexer syntax"}
 }
 
 // DOC.md, Overview: the layers are built on each other in their order, and call no others than those that the table names.
